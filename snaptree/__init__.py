@@ -1,0 +1,1 @@
+"""Snaptree: a tree of names and its snapshots."""
