@@ -3,59 +3,12 @@
 import string
 import unittest
 
+from helpers import BAD_TEXTS, label, names, no_sequences, no_texts
 from snaptree import paths
 from snaptree.errors import BadPath
 from snaptree.paths import checked, is_name, read, written
 
 GOOD_NAMES = ["a", "z", "m", "bc", "az", "aaaaaaaa", "zzzzzzzz", "abcdefgh", "azazazaz"]
-
-# Texts that are almost names.
-BAD_TEXTS = [
-    "", "aaaaaaaaa", "zzzzzzzzz", "a" * 1000,
-    "A", "Z", "Ab", "aB", "abcdefgH",
-    "0", "9", "a1", "1a", "a1b",
-    " ", " a", "a ", "a b", "        ",
-    "a\n", "\na", "abcdefg\n", "abcdefgh\n", "a\r", "a\r\n", "\n",
-    "a\t", "\t", "a\x00", "\x00",
-    "/", "/a", "a/", "a/b",
-    "`", "{", "a`", "a{", "_", "a_b", "-", ".", "a.b",
-    "\u00e9", "a\u00e9", "\u00df", "\u0131", "\u03b1", "\u0430", "\uff41", "\u00aa", "a\u0301",
-    "\ud800", "\U0001d41a", "\u4e2d",
-]
-
-
-class Odd:
-    """A thing that is equal to everything."""
-
-    def __eq__(self, other):
-        return True
-
-    def __hash__(self):
-        return 0
-
-
-# Made anew for each test, as some of them could be changed.
-def no_texts():
-    return [
-        0, 1, -1, 10 ** 40, True, False, None, 1.5, 2j,
-        b"", b"a", b"abc", bytearray(b"a"),
-        [], ["a"], (), ("a",), {}, {"a": 1}, {"a"}, frozenset("a"),
-        range(1), iter("a"), object(), Odd(), str, is_name, NotImplemented, ...,
-    ]
-
-
-def no_sequences():
-    """Things that are neither a list nor a tuple."""
-    return [
-        "", "a", "ab", "/", "/a", b"", b"a", bytearray(b"a"), {}, {"a": "b"}, {"a"}, frozenset("a"),
-        None, True, False, 0, 1, -1, 8, 1.5, range(0), iter(["a"]), {"a": 1}.keys(),
-        object(), Odd(), list, tuple, is_name, ...,
-    ]
-
-
-def names(count):
-    """As many different names as count tells, the longest of eight letters."""
-    return [string.ascii_lowercase[at:at + at % 8 + 1] for at in range(count)]
 
 
 class IsNameTest(unittest.TestCase):
@@ -91,7 +44,7 @@ class IsNameTest(unittest.TestCase):
 
     def test_what_is_no_text_is_no_name(self):
         for thing in no_texts():
-            with self.subTest(thing=repr(thing)):
+            with self.subTest(thing=label(thing)):
                 self.assertIs(is_name(thing), False)
 
     def test_nothing_handed_in_is_changed(self):
@@ -121,13 +74,13 @@ class PathCases:
                 for thing in BAD_TEXTS + no_texts():
                     path = names(count)
                     path[at] = thing
-                    with self.subTest(count=count, at=at, thing=ascii(thing)):
+                    with self.subTest(count=count, at=at, thing=label(thing)):
                         self.refuses(path)
                         self.refuses(tuple(path))
 
     def test_neither_a_list_nor_a_tuple_is_refused(self):
         for thing in no_sequences():
-            with self.subTest(thing=repr(thing)):
+            with self.subTest(thing=label(thing)):
                 self.refuses(thing)
 
     def test_a_list_that_holds_itself_is_refused(self):
@@ -249,7 +202,7 @@ class ReadTest(unittest.TestCase):
 
     def test_what_is_no_text_is_refused(self):
         for thing in no_texts() + [["/", "a"], ("/a",), b"/", b"/a"]:
-            with self.subTest(thing=repr(thing)):
+            with self.subTest(thing=label(thing)):
                 self.refuses(thing)
 
     def test_a_refused_list_stays_as_it_was(self):
