@@ -143,6 +143,8 @@ class RefusalTest(unittest.TestCase):
     def test_no_path_that_begins_where_nothing_stands(self):
         self.refuses(BadPath, ["x", "X"])
         self.refuses(BadPath, ["x"] * 9)
+        self.refuses(BadPath, ["d", "X"])
+        self.refuses(BadPath, ["d"] * 9)
 
     def test_nothing_in_a_new_store(self):
         store = Store()

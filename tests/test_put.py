@@ -209,6 +209,11 @@ class RefusalTest(unittest.TestCase):
             for number in (True, None, EDGE):
                 self.refuses(BadPath, path, number)
 
+    def test_the_path_is_refused_before_what_stands_there(self):
+        for path in (["e", "X"], ["e"] * 9, ["a", "d", ""], ["a", "b", None]):
+            self.refuses(BadPath, path, 5)
+            self.refuses(BadPath, tuple(path), True)
+
     def test_the_number_is_refused_before_what_stands_there(self):
         for path in (["e", "x"], ["a"], ["a", "b"], ["f"], ["e"]):
             for number in (True, None, EDGE, "1"):

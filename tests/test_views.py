@@ -156,6 +156,16 @@ class TopTest(ViewCase):
                 self.refuses(NoShot, self.store.top, view)
 
 
+class OrderTest(ViewCase):
+    def test_the_path_is_refused_before_what_stands_there(self):
+        for path in (["e", "X"], ["e"] * 9, ["x", ""], ["x"] * 9, ["a", None]):
+            for view in (None, 1, 3):
+                for method in (self.store.kind, self.store.value, self.store.names):
+                    with self.subTest(path=path, view=view, method=method.__name__):
+                        self.refuses(BadPath, method, view, path)
+                        self.refuses(BadPath, method, view, tuple(path))
+
+
 class NothingChangesTest(ViewCase):
     def test_reading_changes_nothing(self):
         path = ["a", "b"]
